@@ -1,0 +1,1 @@
+"""Looplearn: a learner of words that reads a loop for ever."""

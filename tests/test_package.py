@@ -1,0 +1,67 @@
+import ast
+import importlib
+import pathlib
+import unittest
+
+PACKAGE = pathlib.Path(__file__).resolve().parent.parent / "looplearn"
+
+# The interface as far as it has landed: what stands in which file.
+INTERFACE = {
+    "errors": [
+        "LearnError", "NoKnown", "NoText", "NoPairs", "NoLoop", "NoCoder", "NoCount", "NotRound", "NoTree",
+        "NoSign", "NotLike", "NoPlace", "NoCounts", "NoWord", "Nothing", "NoLog", "NoRow",
+    ],
+    "words": ["is_known", "cut", "known_behind", "pairs", "read_pairs"],
+    "loops": ["is_loop", "is_plain", "root", "turned", "alike_for"],
+}
+
+
+def package_files():
+    return [path for path in sorted(PACKAGE.rglob("*")) if "__pycache__" not in path.parts]
+
+
+class TestInterface(unittest.TestCase):
+    def test_each_name_is_defined_in_its_file(self):
+        for name, listed in INTERFACE.items():
+            module = importlib.import_module("looplearn." + name)
+            tree = ast.parse((PACKAGE / (name + ".py")).read_text())
+            defined = [row.name for row in tree.body if isinstance(row, (ast.FunctionDef, ast.ClassDef))]
+            for word in listed:
+                with self.subTest(name=name, word=word):
+                    self.assertTrue(callable(getattr(module, word)))
+                    self.assertEqual(defined.count(word), 1)
+
+
+class TestForm(unittest.TestCase):
+    """The plainest of the rules that the files of the package keep to."""
+
+    def test_the_folder_holds_python_files_only(self):
+        self.assertTrue((PACKAGE / "__init__.py").is_file())
+        for path in package_files():
+            self.assertEqual(path.suffix, ".py", path)
+
+    def test_signs_and_sizes(self):
+        for path in package_files():
+            text = path.read_bytes().decode("ascii")
+            self.assertTrue(all(sign == "\n" or " " <= sign <= "~" for sign in text), path)
+            self.assertLessEqual(len(text.splitlines()), 399, path)
+            self.assertLessEqual(max(map(len, text.splitlines())), 120, path)
+
+    def test_functions_are_short(self):
+        for path in package_files():
+            for row in ast.walk(ast.parse(path.read_text())):
+                if isinstance(row, ast.FunctionDef):
+                    self.assertLessEqual(row.end_lineno - row.lineno + 1, 40, (path, row.name))
+
+    def test_imports_are_from_the_package(self):
+        for path in package_files():
+            for row in ast.walk(ast.parse(path.read_text())):
+                self.assertNotIsInstance(row, ast.Import, path)
+                if isinstance(row, ast.ImportFrom):
+                    self.assertTrue(row.module.startswith("looplearn."), (path, row.module))
+                    self.assertEqual(row.level, 0, path)
+                    self.assertTrue(all(alias.asname is None for alias in row.names), path)
+
+
+if __name__ == "__main__":
+    unittest.main()
