@@ -23,6 +23,12 @@ def is_plain(loop):
     return len(set(loop)) == len(loop)
 
 
+def refuse_not_plain(loop):
+    """Refuse what is no loop, and a loop that isn't plain."""
+    if not is_plain(loop):
+        raise NoLoop("the letters of a plain loop are unlike")
+
+
 def root(loop):
     """Tell the shortest text that, said over and over, is the same as the loop."""
     refuse_no_loop(loop)

@@ -1,7 +1,7 @@
 """Words: what is known, reading a text into new words, and its pairs."""
 
 from looplearn.errors import NoKnown, NoPairs, NoText
-from looplearn.kinds import is_letters, is_whole
+from looplearn.kinds import is_letters, is_within
 
 MOST_LETTERS = 2000
 
@@ -93,7 +93,7 @@ def is_pair(thing, many):
     if not isinstance(thing, tuple) or len(thing) != 2:
         return False
     number, letter = thing
-    if not is_whole(number) or not 0 <= number < many:
+    if not is_within(number, 0, many - 1):
         return False
     return is_letters(letter) and len(letter) == 1
 

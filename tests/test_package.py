@@ -1,5 +1,6 @@
 import ast
 import importlib
+import inspect
 import pathlib
 import unittest
 
@@ -11,8 +12,17 @@ INTERFACE = {
         "LearnError", "NoKnown", "NoText", "NoPairs", "NoLoop", "NoCoder", "NoCount", "NotRound", "NoTree",
         "NoSign", "NotLike", "NoPlace", "NoCounts", "NoWord", "Nothing", "NoLog", "NoRow",
     ],
-    "words": ["is_known", "cut", "known_behind", "pairs", "read_pairs"],
-    "loops": ["is_loop", "is_plain", "root", "turned", "alike_for"],
+    "words": [
+        "is_known(thing)", "cut(known, text)", "known_behind(known, text)", "pairs(known, text)",
+        "read_pairs(known, row)",
+    ],
+    "loops": ["is_loop(thing)", "is_plain(loop)", "root(loop)", "turned(loop, by)", "alike_for(one, other)"],
+    "coders": [
+        "is_coder(thing)", "step(coder)", "behind(coder, many)", "words_of(coder, many)", "coder_on(loop, known)",
+    ],
+    "rounds": ["in_round(coder)", "ahead(coder)", "round_of(coder)", "ring(coder)", "is_ring(coder, thing)"],
+    "backs": ["befores(coder)", "before(coder)"],
+    "trees": ["tree_of(coder)", "is_tree(p, thing)", "coder_of(p, tree)", "all_trees(p)"],
 }
 
 
@@ -26,10 +36,13 @@ class TestInterface(unittest.TestCase):
             module = importlib.import_module("looplearn." + name)
             tree = ast.parse((PACKAGE / (name + ".py")).read_text())
             defined = [row.name for row in tree.body if isinstance(row, (ast.FunctionDef, ast.ClassDef))]
-            for word in listed:
+            for entry in listed:
+                word, bracket, _ = entry.partition("(")
                 with self.subTest(name=name, word=word):
                     self.assertTrue(callable(getattr(module, word)))
                     self.assertEqual(defined.count(word), 1)
+                    if bracket:
+                        self.assertEqual(word + str(inspect.signature(getattr(module, word))), entry)
 
 
 class TestForm(unittest.TestCase):

@@ -1,0 +1,80 @@
+"""Coders: where on a plain loop a learner is, and how long what it knows is."""
+
+from looplearn.errors import NoCoder
+from looplearn.kinds import is_whole, is_within, refuse_no_count
+from looplearn.loops import MOST_PLACES, refuse_not_plain
+from looplearn.words import longest_end, numbered, refuse_unknown
+
+MOST_WORDS = 2000
+MOST_STEPS = 10 ** 18
+
+
+def is_coder(thing):
+    """Tell of anything whether it is a coder."""
+    if not isinstance(thing, tuple) or len(thing) != 2:
+        return False
+    place, lengths = thing
+    if not isinstance(lengths, tuple) or not 1 <= len(lengths) <= MOST_PLACES:
+        return False
+    if not is_within(place, 0, len(lengths) - 1):
+        return False
+    return all([is_whole(length) and length >= 0 for length in lengths])
+
+
+def refuse_no_coder(coder):
+    """Refuse what is no coder."""
+    if not is_coder(coder):
+        raise NoCoder(f"a coder is a place and one to {MOST_PLACES} lengths from 0 on")
+
+
+def next_coder(coder):
+    """Tell the coder behind a step of what surely is a coder."""
+    place, lengths = coder
+    length = lengths[place] + 1
+    longer = (*lengths[:place], length, *lengths[place + 1:])
+    return (place + length) % len(lengths), longer
+
+
+def step(coder):
+    """Tell the coder behind a step."""
+    refuse_no_coder(coder)
+    return next_coder(coder)
+
+
+def behind(coder, many):
+    """Tell the coder behind so many steps."""
+    refuse_no_coder(coder)
+    refuse_no_count(many, 0, MOST_STEPS)
+    places = len(coder[1])
+    # As many words in a row of one place as there are places lead to all of them. So
+    # while one isn't come to, each other one begins fewer, (places - 1) ** 2 together:
+    # behind one word more all have been come to, and the coder is in its round. There
+    # a whole round keeps the place and makes each length more by the number of places.
+    rounds = max(0, many - (places - 1) ** 2 - 1) // (places * places)
+    for _ in range(many - rounds * places * places):
+        coder = next_coder(coder)
+    place, lengths = coder
+    return place, tuple([length + rounds * places for length in lengths])
+
+
+def words_of(coder, many):
+    """Tell the words that so many steps take, each as its place and its length."""
+    refuse_no_coder(coder)
+    refuse_no_count(many, 0, MOST_WORDS)
+    words = []
+    for _ in range(many):
+        place, lengths = coder
+        words.append((place, lengths[place] + 1))
+        coder = next_coder(coder)
+    return words
+
+
+def coder_on(loop, known):
+    """Tell the coder at the first place of a plain loop that knows these words."""
+    refuse_not_plain(loop)
+    refuse_unknown(known)
+    numbers = numbered(known)
+    # No known word has more letters than there are words, for its beginnings are
+    # known too; so this text never ends ahead of a word that the endless loop has.
+    text = loop * (len(known) // len(loop) + 2)
+    return 0, tuple([longest_end(numbers, text, at) - at for at in range(len(loop))])
