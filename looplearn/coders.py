@@ -41,20 +41,30 @@ def step(coder):
     return next_coder(coder)
 
 
+def rounds_later(coder, rounds):
+    """Tell the coder so many whole rounds later, of what surely is one in its round."""
+    # A whole round keeps the place and makes each length more by the number of places.
+    place, lengths = coder
+    return place, tuple([length + rounds * len(lengths) for length in lengths])
+
+
+def words_till_round(places):
+    """Tell behind how many words each coder of so many places is in its round."""
+    # As many words in a row of one place as there are places lead to all of them. So
+    # while one isn't come to, each other one begins fewer, (places - 1) ** 2 together:
+    # behind one word more all have been come to, and the coder is in its round.
+    return (places - 1) ** 2 + 1
+
+
 def behind(coder, many):
     """Tell the coder behind so many steps."""
     refuse_no_coder(coder)
     refuse_no_count(many, 0, MOST_STEPS)
     places = len(coder[1])
-    # As many words in a row of one place as there are places lead to all of them. So
-    # while one isn't come to, each other one begins fewer, (places - 1) ** 2 together:
-    # behind one word more all have been come to, and the coder is in its round. There
-    # a whole round keeps the place and makes each length more by the number of places.
-    rounds = max(0, many - (places - 1) ** 2 - 1) // (places * places)
+    rounds = max(0, many - words_till_round(places)) // (places * places)
     for _ in range(many - rounds * places * places):
         coder = next_coder(coder)
-    place, lengths = coder
-    return place, tuple([length + rounds * places for length in lengths])
+    return rounds_later(coder, rounds)
 
 
 def words_of(coder, many):
@@ -69,12 +79,17 @@ def words_of(coder, many):
     return words
 
 
-def coder_on(loop, known):
-    """Tell the coder at the first place of a plain loop that knows these words."""
-    refuse_not_plain(loop)
+def known_lengths(loop, known):
+    """Tell place by place how long the longest word is that is known of an endless loop."""
     refuse_unknown(known)
     numbers = numbered(known)
     # No known word has more letters than there are words, for its beginnings are
     # known too; so this text never ends ahead of a word that the endless loop has.
     text = loop * (len(known) // len(loop) + 2)
-    return 0, tuple([longest_end(numbers, text, at) - at for at in range(len(loop))])
+    return tuple([longest_end(numbers, text, at) - at for at in range(len(loop))])
+
+
+def coder_on(loop, known):
+    """Tell the coder at the first place of a plain loop that knows these words."""
+    refuse_not_plain(loop)
+    return 0, known_lengths(loop, known)

@@ -1,6 +1,7 @@
 """Coders to be handed in, and what the document's words say of them, step by step."""
 
 import itertools
+import random
 
 FAR = 10 ** 30
 
@@ -59,3 +60,24 @@ def steps_till_round(coder):
         coder = one_step(coder)
         many += 1
     return many
+
+
+def some_coders(seed=6):
+    """Coders of one to twelve places, with short lengths and long ones."""
+    chance = random.Random(seed)
+    for p in range(1, 13):
+        yield late_coder(p)
+        yield 0, (0,) * p
+        yield p - 1, (FAR,) * p
+        for most in (1, p, FAR):
+            for _ in range(5):
+                yield chance_coder(chance, p, most)
+
+
+def words_in_turn(coder, many):
+    """The words of so many steps, each as its place and its length."""
+    words = []
+    for _ in range(many):
+        words.append((coder[0], coder[1][coder[0]] + 1))
+        coder = one_step(coder)
+    return words

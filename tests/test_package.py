@@ -23,6 +23,18 @@ INTERFACE = {
     "rounds": ["in_round(coder)", "ahead(coder)", "round_of(coder)", "ring(coder)", "is_ring(coder, thing)"],
     "backs": ["befores(coder)", "before(coder)"],
     "trees": ["tree_of(coder)", "is_tree(p, thing)", "coder_of(p, tree)", "all_trees(p)"],
+    "signs": [
+        "sign_of(coder)", "tree_by(p, sign)", "is_sign(p, thing)", "one_round(coder, other)",
+        "steps_between(coder, other)",
+    ],
+    "far": [
+        "word_at(coder, number)", "letters_by(coder, many)", "number_at(coder, letter)",
+        "learnt_by(coder, place, length)", "longest_by(coder, many)", "pair_at(coder, number)",
+    ],
+    "anyloops": [
+        "lengths_on(loop, known)", "is_grown(loop, known)", "grown_by(loop, known)", "coder_then(loop, known)",
+        "word_on(loop, known, number)",
+    ],
 }
 
 

@@ -1,9 +1,8 @@
 import itertools
-import random
 import unittest
 
-from goings import FAR, NOT_CODERS, chance_coder, comes_back, late_coder, many_steps, one_step
-from goings import small_coders, steps_till_round
+from goings import FAR, NOT_CODERS, comes_back, late_coder, many_steps, one_step
+from goings import small_coders, some_coders, steps_till_round
 from looplearn.errors import NoCoder
 from looplearn.rounds import ahead, in_round, is_ring, ring, round_of
 from things import OTHERS
@@ -24,18 +23,6 @@ def lists_of_places(p):
     for size in range(p + 1):
         found.extend(list(row) for row in itertools.permutations(range(p), size))
     return found
-
-
-def some_coders():
-    """Coders of one to twelve places, with short lengths and long ones."""
-    chance = random.Random(6)
-    for p in range(1, 13):
-        yield late_coder(p)
-        yield 0, (0,) * p
-        yield p - 1, (FAR,) * p
-        for most in (1, p, FAR):
-            for _ in range(5):
-                yield chance_coder(chance, p, most)
 
 
 class TestInRound(unittest.TestCase):
