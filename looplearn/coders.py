@@ -27,12 +27,16 @@ def refuse_no_coder(coder):
         raise NoCoder(f"a coder is a place and one to {MOST_PLACES} lengths from 0 on")
 
 
+def one_longer(lengths, place):
+    """Tell the lengths when one word more is known at a place."""
+    return (*lengths[:place], lengths[place] + 1, *lengths[place + 1:])
+
+
 def next_coder(coder):
     """Tell the coder behind a step of what surely is a coder."""
     place, lengths = coder
-    length = lengths[place] + 1
-    longer = (*lengths[:place], length, *lengths[place + 1:])
-    return (place + length) % len(lengths), longer
+    longer = one_longer(lengths, place)
+    return (place + longer[place]) % len(lengths), longer
 
 
 def step(coder):

@@ -143,7 +143,8 @@ class TestNumberAt(unittest.TestCase):
         for coder in [*some_coders(45), *FAR_APART]:
             for number in far_numbers(chance):
                 ahead, behind = letters_by(coder, number - 1), letters_by(coder, number)
-                for letter, due in ((ahead - 1, number - 1), (ahead, number), (behind - 1, number), (behind, number + 1)):
+                due_of = ((ahead - 1, number - 1), (ahead, number), (behind - 1, number), (behind, number + 1))
+                for letter, due in due_of:
                     if 0 <= letter <= LAST:
                         self.assertEqual(number_at(coder, letter), due)
 

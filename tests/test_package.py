@@ -6,7 +6,7 @@ import unittest
 
 PACKAGE = pathlib.Path(__file__).resolve().parent.parent / "looplearn"
 
-# The interface as far as it has landed: what stands in which file.
+# The interface: what stands in which file.
 INTERFACE = {
     "errors": [
         "LearnError", "NoKnown", "NoText", "NoPairs", "NoLoop", "NoCoder", "NoCount", "NotRound", "NoTree",
@@ -35,6 +35,19 @@ INTERFACE = {
         "lengths_on(loop, known)", "is_grown(loop, known)", "grown_by(loop, known)", "coder_then(loop, known)",
         "word_on(loop, known, number)",
     ],
+    "teaching": ["taught(coder, counts)", "least_teaching(coder, sign)"],
+    "learners": ["Learner(loop, known, *, first=0)", "learner_of(loop, known, log, *, first=0)"],
+    "texts": ["show_coder(coder)", "read_coder(text)"],
+    "desk": ["Desk()"],
+}
+
+# The methods of a class, each in the class itself.
+METHODS = {
+    ("learners", "Learner"): [
+        "learn(self, n)", "teach(self, word)", "back(self)", "coder(self)", "count(self)", "word(self, n)",
+        "knows(self, word)", "log(self)", "__len__(self)", "__eq__(self, other)",
+    ],
+    ("desk", "Desk"): ["say(self, row)"],
 }
 
 
@@ -55,6 +68,14 @@ class TestInterface(unittest.TestCase):
                     self.assertEqual(defined.count(word), 1)
                     if bracket:
                         self.assertEqual(word + str(inspect.signature(getattr(module, word))), entry)
+
+    def test_each_method_is_defined_in_its_class(self):
+        for (name, word), listed in METHODS.items():
+            own = vars(getattr(importlib.import_module("looplearn." + name), word))
+            for entry in listed:
+                method, _, _ = entry.partition("(")
+                with self.subTest(word=word, method=method):
+                    self.assertEqual(method + str(inspect.signature(own[method])), entry)
 
 
 class TestForm(unittest.TestCase):

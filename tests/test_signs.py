@@ -98,7 +98,8 @@ class TestSignOf(unittest.TestCase):
         for coder in some_coders(22):
             self.assertEqual(sign_of(coder), sign_by_the_words(state(coder)), coder)
         for place in range(3):
-            self.assertEqual(sign_of((place, (0, FAR, 10 ** 29))), sign_by_the_words((place, (0, FAR % 3, 10 ** 29 % 3))))
+            coder = place, (0, FAR, 10 ** 29)
+            self.assertEqual(sign_of(coder), sign_by_the_words(state(coder)))
 
     def test_a_step_never_changes_it(self):
         for coder in some_coders(23):
